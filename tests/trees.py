@@ -104,6 +104,61 @@ def mirrored(tree):
     return (-key, mirrored(right), mirrored(left))
 
 
+def rotated_up(tree, side):
+    """The tree after a rotation of the left child (side 1) or of the right child (side 2) of its top."""
+    if side == 1:
+        parent, (key, inner, middle), outer = tree
+        return (key, inner, (parent, middle, outer))
+    parent, outer, (key, middle, inner) = tree
+    return (key, (parent, outer, middle), inner)
+
+
+def side_of(tree, key):
+    """The side of the top of a tree, 1 or 2, on which another key lies."""
+    return 1 if key < tree[0] else 2
+
+
+def with_part(tree, side, part):
+    """The tree with another left or right subtree."""
+    return (tree[0], part, tree[2]) if side == 1 else (tree[0], tree[1], part)
+
+
+def rotated(tree, key):
+    """The tree after one rotation of a key with its parent; the key is in the tree and not at its top."""
+    side = side_of(tree, key)
+    if tree[side][0] == key:
+        return rotated_up(tree, side)
+    return with_part(tree, side, rotated(tree[side], key))
+
+
+def touched(tree, key):
+    """The pair of the tree after a touch, rotation by rotation, and the number of rotations."""
+    cost = 0
+    while tree[0] != key:
+        tree = rotated(tree, key)
+        cost += 1
+    return tree, cost
+
+
+def touched_all(tree, keys):
+    """The pair of the tree after touches and the list of their costs."""
+    costs = []
+    for key in keys:
+        tree, cost = touched(tree, key)
+        costs.append(cost)
+    return tree, costs
+
+
+def keys_of(tree):
+    """The ascending list of the keys of a tree."""
+    return sorted(preorder(tree))
+
+
+def pairs_above(tree):
+    """The set of all pairs (key, other) such that the key is above the other one."""
+    return {(key, node[0]) for node, above in places(tree) for key in above}
+
+
 def beside(keys):
     """The keys, and all integers that lie directly beside one of them."""
     return sorted({key + step for key in keys for step in (-1, 0, 1)} | {0})
