@@ -182,6 +182,26 @@ class Code(unittest.TestCase):
             if isinstance(node, ast.Call) and isinstance(node.func, ast.Attribute):
                 self.assertIn(node.func.attr, METHODS | own, name)
 
+    def test_lists_stand_where_a_class_with_eq_would_bar_generator_expressions(self):
+        for name, node in all_nodes():
+            self.assertNotIsInstance(node, ast.GeneratorExp, name)
+
+    def test_keywords_of_builtins(self):
+        allowed = {
+            "sorted": {"key", "reverse"}, "min": {"key", "default"}, "max": {"key", "default"}, "sum": {"start"},
+            "enumerate": {"start"}, "zip": {"strict"}}
+        for name, node in all_nodes():
+            if isinstance(node, ast.Call):
+                called = getattr(node.func, "id", getattr(node.func, "attr", None))
+                if called in BUILTINS | METHODS:
+                    self.assertLessEqual({word.arg for word in node.keywords}, allowed.get(called, set()), name)
+
+    def test_sets_are_not_iterated(self):
+        for name, node in all_nodes():
+            if isinstance(node, (ast.For, ast.comprehension)):
+                self.assertNotIsInstance(node.iter, (ast.Set, ast.SetComp), name)
+                self.assertFalse(isinstance(node.iter, ast.Call) and getattr(node.iter.func, "id", "") == "set", name)
+
     def test_is_stands_only_beside_none_true_and_false(self):
         for name, node in all_nodes():
             if isinstance(node, ast.Compare):

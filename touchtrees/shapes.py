@@ -54,7 +54,7 @@ def is_shape(shape):
 
 
 def grow(keys):
-    """Returns the shape that distinct keys form if each one is inserted as a leaf."""
+    """Returns the shape that keys form if each one is inserted as a leaf; a key that is there is passed over."""
     if not keys:
         return ()
     # The first key stays the root, and each side grows as if the other one were not there.

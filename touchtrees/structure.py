@@ -69,12 +69,16 @@ def children_of(shape, key):
     return root_of(left), root_of(right)
 
 
-def bounds_of(shape, key):
-    """Returns the pair of the nearest smaller and the nearest greater key above the key, or None for each."""
-    path = path_to(shape, key)
+def nearest_on(path, key):
+    """Returns the pair of the nearest smaller and the nearest greater key in a list, or None for each."""
     low = max([above for above in path if above < key], default=None)
     high = min([above for above in path if above > key], default=None)
     return low, high
+
+
+def bounds_of(shape, key):
+    """Returns the pair of the nearest smaller and the nearest greater key above the key, or None for each."""
+    return nearest_on(path_to(shape, key), key)
 
 
 def subtree_at(shape, key):
@@ -89,6 +93,12 @@ def is_above(shape, one, other):
     require_key(shape, one)
     require_key(shape, other)
     return one != other and one in search_path(shape, other)
+
+
+def parting_keys(one, other):
+    """Returns two keys for two different shapes over the same keys; each is above the other one in its own shape."""
+    # Before the preorders part, the trees are the same, so that both keys are at the top of the same keys there.
+    return [(key, rival) for key, rival in zip(one, other) if key != rival][0]
 
 
 def spine_lengths(shape):
