@@ -2,7 +2,7 @@
 
 import unittest
 
-from touchtrees.spines import free_table, joined_table
+from touchtrees.spines import free_table, joined_pairs, joined_spines, joined_table, spine_pairs
 
 import trees
 
@@ -38,6 +38,20 @@ class Tables(unittest.TestCase):
                     found = [tree for tree in everything if trees.touched(tree, key)[1] == depth]
                     table = joined_table(free_table(keys[:at]), key, free_table(keys[at + 1:]), depth)
                     self.check_table(table, found)
+
+    def test_pairs_of_spine_lengths_of_all_trees(self):
+        for size in range(9):
+            found = expected_numbers(trees.all_trees(list(range(size))))
+            self.assertEqual(spine_pairs(size), sorted(found))
+
+    def test_pairs_without_the_numbers_of_ways(self):
+        for inner in range(5):
+            for outer in range(5):
+                for depth in list(range(-2, 11)) + [-10 ** 30, 10 ** 30]:
+                    smaller, greater = (3, inner), (outer, 7)
+                    pairs = joined_pairs(smaller, greater, depth)
+                    found = {pair for pair, ways, path in joined_spines(smaller, greater, depth)}
+                    self.assertEqual(sorted(pairs), sorted(found))
 
     def test_the_greatest_free_table(self):
         table = free_table(list(range(12)))

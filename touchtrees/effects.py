@@ -2,7 +2,7 @@
 
 from touchtrees.histories import last_touches
 from touchtrees.rotations import put_on_top
-from touchtrees.shapes import first_misplaced, grow
+from touchtrees.shapes import grow, is_shape_over
 from touchtrees.structure import children_of, is_above, parting_keys, require_key
 
 
@@ -65,8 +65,6 @@ def difference_holds(one, other, keys, paper):
     ones = recent_touches(one, keys)
     others = recent_touches(other, keys)
     shape, first, second = paper
-    if sorted(shape) != list(keys) or first_misplaced(shape) is not None:
-        return False
-    if first not in keys or second not in keys:
+    if not is_shape_over(shape, keys) or first not in keys or second not in keys:
         return False
     return is_above(shape_after(shape, ones), first, second) != is_above(shape_after(shape, others), first, second)

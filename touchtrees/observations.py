@@ -64,6 +64,11 @@ def repeats_agree(log):
     return all([cost == depth_of(top, key) for top, (key, cost) in zip(tops, log) if key in top])
 
 
+def splits_in(log):
+    """Returns a dict from each gap that a first touch of a checked log splits to the key and its depth."""
+    return {(low, high): (key, depth) for low, high, key, depth in gaps_in(log)}
+
+
 def gap_table(keys, splits, low, high):
     """Returns the table of the restrictions of the hidden shape to a gap, given the keys that split gaps."""
     if (low, high) not in splits:
@@ -78,8 +83,7 @@ def agreeing_table(keys, log):
     """Returns a dict from pairs of spine lengths to the number of agreeing shapes that have them and one of these."""
     if not repeats_agree(log):
         return {}
-    splits = {(low, high): (key, depth) for low, high, key, depth in gaps_in(log)}
-    return gap_table(keys, splits, None, None)
+    return gap_table(keys, splits_in(log), None, None)
 
 
 def count_agreeing(keys, log):

@@ -53,6 +53,11 @@ def is_shape(shape):
     return True
 
 
+def is_shape_over(shape, keys):
+    """Returns whether a tuple of integers is a shape over an ascending list of keys."""
+    return sorted(shape) == list(keys) and first_misplaced(shape) is None
+
+
 def grow(keys):
     """Returns the shape that keys form if each one is inserted as a leaf; a key that is there is passed over."""
     if not keys:

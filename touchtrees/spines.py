@@ -14,15 +14,19 @@ def sample_shape(keys, left, right):
     return grow(keys[at:] + keys[at - left + 2:at][::-1] + keys)
 
 
+def spine_pairs(size):
+    """Returns the ascending list of the pairs of spine lengths that shapes over so many keys have."""
+    found = []
+    for left in range(size + 1):
+        found.extend([(left, right) for right in range(size + 1) if count_by_spines(size, left, right) > 0])
+    return found
+
+
 def free_table(keys):
     """Returns a dict from each pair of spine lengths of shapes over a list to their number and one of them."""
     table = {}
-    many = len(keys)
-    for left in range(many + 1):
-        for right in range(many + 1):
-            number = count_by_spines(many, left, right)
-            if number > 0:
-                table[(left, right)] = (number, sample_shape(keys, left, right))
+    for left, right in spine_pairs(len(keys)):
+        table[(left, right)] = (count_by_spines(len(keys), left, right), sample_shape(keys, left, right))
     return table
 
 
@@ -53,6 +57,30 @@ def joined_spines(smaller, greater, depth):
     found = []
     for low in range(max(0, depth - greater[0]), min(smaller[1], depth) + 1):
         found.extend(paths_through(smaller, greater, low, depth - low))
+    return found
+
+
+def joined_pairs(smaller, greater, depth):
+    """Returns the list of the pairs that joined_spines has for the same arguments, each one once."""
+    left, right = smaller[0], greater[1]
+    # The least and the greatest number of smaller keys above the key.
+    least = max(0, depth - greater[0])
+    most = min(smaller[1], depth)
+    if least > most:
+        return []
+    if depth == 0:
+        return [(left + 1, right + 1)]
+    found = []
+    if least == 0:
+        found.append((left + depth + 1, right))
+    if most == depth:
+        found.append((left, right + depth + 1))
+    # Keys of both sides are above the key here. Most keys of one side allow every shorter beginning of the path.
+    least = max(least, 1)
+    most = min(most, depth - 1)
+    if least <= most:
+        found.extend([(left, right + first) for first in range(1, most + 1)])
+        found.extend([(left + first, right) for first in range(1, depth - least + 1)])
     return found
 
 
