@@ -17,7 +17,10 @@ BUILTINS = set(
 METHODS = set(
     "append clear copy count endswith extend find get index insert isalnum isalpha isdigit islower isspace isupper"
     " items join keys ljust lower lstrip partition pop remove replace reverse rfind rjust rpartition rsplit rstrip"
-    " setdefault split splitlines startswith strip update upper values zfill bit_length sort add discard".split())
+    " setdefault split splitlines startswith strip update upper values zfill bit_length add discard title capitalize"
+    " swapcase casefold center expandtabs removeprefix removesuffix rindex isascii isdecimal isnumeric istitle"
+    " isidentifier isprintable".split())
+BUILTIN_ATTRIBUTES = {name for kind in (str, int, list, tuple, dict, set, bytes) for name in dir(kind)}
 DUNDER_METHODS = set("__init__ __eq__ __repr__ __str__ __len__".split())
 BARRED_WORDS = set(
     "type typing typing_extensions enum Enum IntEnum StrEnum Flag IntFlag Generic Protocol ABC ABCMeta namedtuple"
@@ -61,6 +64,19 @@ def imports_of(path):
     """The pairs (module, name) that a file of the package imports."""
     found = [node for node in tree_of(path).body if isinstance(node, ast.ImportFrom)]
     return [(node.module, alias.name) for node in found for alias in node.names]
+
+
+def classes():
+    return [node for _, node in all_nodes() if isinstance(node, ast.ClassDef)]
+
+
+def methods_of(node):
+    return [row for row in node.body if isinstance(row, ast.FunctionDef)]
+
+
+def stored_attributes():
+    return {
+        node.attr for _, node in all_nodes() if isinstance(node, ast.Attribute) and isinstance(node.ctx, ast.Store)}
 
 
 class FilesAndCharacters(unittest.TestCase):
@@ -216,23 +232,79 @@ class Code(unittest.TestCase):
                 self.assertIsInstance(node.right, ast.Constant, name)
                 self.assertIn(node.right.value, range(65), name)
 
-    def test_no_name_is_a_method_and_an_attribute(self):
-        methods = {
-            row.name for _, node in all_nodes() if isinstance(node, ast.ClassDef)
-            for row in node.body if isinstance(row, ast.FunctionDef)}
-        stored = {
-            node.attr for _, node in all_nodes()
-            if isinstance(node, ast.Attribute) and isinstance(node.ctx, ast.Store)}
-        self.assertEqual(methods & stored, set())
-
     def test_errors_are_raised_and_caught_by_name(self):
         for name, node in all_nodes():
             if isinstance(node, ast.Raise) and node.exc is not None:
                 self.assertIsInstance(node.exc, ast.Call, name)
                 self.assertIsInstance(node.exc.func, ast.Name, name)
                 self.assertNotIn(node.exc.func.id, ("TreeError", "Missing"), name)
+
+    def test_only_own_errors_are_caught(self):
+        own = {node.name for node in tree_of(PACKAGE / "errors.py").body if isinstance(node, ast.ClassDef)}
+        for name, node in all_nodes():
             if isinstance(node, ast.ExceptHandler):
-                self.assertIsNotNone(node.type, name)
+                caught = node.type.elts if isinstance(node.type, ast.Tuple) else [node.type]
+                self.assertLessEqual({error.id for error in caught}, own, name)
+
+    def test_a_star_in_a_call_stands_before_a_name(self):
+        for name, node in all_nodes():
+            if isinstance(node, ast.Call):
+                for argument in node.args:
+                    if isinstance(argument, ast.Starred):
+                        self.assertIsInstance(argument.value, ast.Name, name)
+
+    def test_iterators_are_iterated_at_once(self):
+        for name, node in all_nodes():
+            if isinstance(node, (ast.Assign, ast.Return)) and isinstance(node.value, ast.Call):
+                called = getattr(node.value.func, "id", getattr(node.value.func, "attr", None))
+                self.assertNotIn(called, ("zip", "enumerate", "reversed", "range", "items", "keys", "values"), name)
+
+    def test_sets_are_not_stored(self):
+        for name, node in all_nodes():
+            if isinstance(node, ast.Assign):
+                self.assertNotIsInstance(node.value, (ast.Set, ast.SetComp), name)
+                self.assertNotEqual(getattr(getattr(node.value, "func", None), "id", ""), "set", name)
+
+
+class Classes(unittest.TestCase):
+
+    def test_no_name_is_a_method_and_an_attribute(self):
+        methods = {method.name for node in classes() for method in methods_of(node)}
+        self.assertEqual(methods & stored_attributes(), set())
+
+    def test_methods_and_attributes_have_no_names_of_builtin_values(self):
+        names = {method.name for node in classes() for method in methods_of(node)} | stored_attributes()
+        self.assertEqual((names - DUNDER_METHODS) & BUILTIN_ATTRIBUTES, set())
+
+    def test_attributes_that_are_read_are_assigned_by_a_class(self):
+        known = stored_attributes() | METHODS | {node.name for _, node in functions()}
+        for name, node in all_nodes():
+            if isinstance(node, ast.Attribute):
+                self.assertIn(node.attr, known, name)
+
+    def test_classes_have_only_methods_and_no_decorators(self):
+        for node in classes():
+            self.assertEqual(node.decorator_list, [], node.name)
+            for row in node.body[1:]:
+                self.assertIsInstance(row, ast.FunctionDef, node.name)
+            self.assertEqual(len({method.name for method in methods_of(node)}), len(methods_of(node)), node.name)
+        for name, node in functions():
+            self.assertEqual(node.decorator_list, [], name)
+
+    def test_equality_length_and_repr_are_a_single_return(self):
+        for node in classes():
+            for method in methods_of(node):
+                if method.name in ("__eq__", "__len__", "__repr__", "__str__"):
+                    self.assertEqual(len(method.body), 1, (node.name, method.name))
+                    self.assertIsInstance(method.body[0], ast.Return, (node.name, method.name))
+                    told = method.body[0].value
+                    if method.name == "__eq__":
+                        start = f"isinstance(other, {node.name}) and "
+                        self.assertTrue(ast.unparse(told).startswith(start), node.name)
+                    elif method.name == "__len__":
+                        self.assertTrue(ast.unparse(told).startswith("len("), node.name)
+                    else:
+                        self.assertIsInstance(told, ast.JoinedStr, node.name)
 
 
 if __name__ == "__main__":
